@@ -146,6 +146,12 @@ class Liar:
     __class__ = tuple
 
 
+class ListLiar:
+    """Claims to be a list."""
+
+    __class__ = list
+
+
 class Grump:
     """Lets nothing be done with it."""
 
@@ -174,7 +180,7 @@ OTHER_KINDS = [
     None, True, False, 1.0, 2.5, 1j, "", "1", "(1,)", b"", b"1", bytearray(b"1"), {}, {0: 1},
     set(), {1}, frozenset({(1,)}), range(2), object(), len, int, tuple, lambda: 1, ..., NotImplemented,
     iter([1]), ValueError("1"), float("nan"), float("inf"), unittest.mock, unittest.mock.Mock(spec=tuple),
-    Liar(), Grump(),
+    Liar(), ListLiar(), Grump(),
 ]
 
 WRONG_HALLS = OTHER_KINDS + [
@@ -208,6 +214,25 @@ def wrong_days(customers):
             [5] * (customers - 1) + [4], [10 ** 15] + [10 ** 15 - 1] * (customers - 1),
         ]
     return days
+
+
+# Things that are no whole number, above 0 or below.
+WRONG_WHOLES = OTHER_KINDS + [
+    [], [0], (), (0,), ((0,),), 0.0, -1.0, "0", "-1", nested(40, one_list, 0), nested(40, one_tuple, 0),
+]
+
+
+def wrong_totals(totals):
+    """Things that are no totals of a hall that has these."""
+    wrong = OTHER_KINDS + [
+        0, 1, sum(totals), (), [], list(totals), {at: total for at, total in enumerate(totals)}, str(totals),
+        totals[:-1], totals[1:], totals + (0,), (0,) + totals, totals * 2, totals[:1] * 9,
+        (totals,), (totals,) * len(totals), nested(40, one_tuple, 0), nested(39, one_tuple, totals),
+    ]
+    for at in range(len(totals)):
+        for number in (-1, -totals[at] - 1, True, False, None, 1.0, float(totals[at]), "1", (1,), [1], Grump()):
+            wrong.append(totals[:at] + (number,) + totals[at + 1:])
+    return wrong
 
 
 def wrong_numbers(many):
