@@ -1,9 +1,9 @@
 """Ways apart: what so many ways cover, and what it tells of two halls (stage 6)."""
 
-from movedminutes.errors import NoCustomers, NoMany, Unlike
+from movedminutes.errors import NoCustomers, NoMany
 from movedminutes.halls import check_hall, is_whole
 from movedminutes.sums import to_last
-from movedminutes.ways import check_both
+from movedminutes.ways import check_like
 
 
 def check_bounds(hall, many, customers):
@@ -30,9 +30,7 @@ def covered(hall, many, customers):
 
 def not_led(hall, other):
     """Tell the least numbers of ways and customers whose covers differ; None where none do."""
-    check_both(hall, other)
-    if len(hall) != len(other):
-        raise Unlike()
+    check_like(hall, other)
     gone_on = to_last(hall)
     other_gone_on = to_last(other)
     for many in range(1, min(len(hall), len(hall[0])) + 1):

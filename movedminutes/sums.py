@@ -47,17 +47,25 @@ def in_order(hall, totals_wished):
     return told
 
 
-def to_first(hall):
-    """Tell the hall that comes of all moves back that there are."""
-    check_hall(hall)
+def settling(hall):
+    """Tell the hall that comes of all moves back that there are, and the list of (counter, many) to it."""
     told = hall
+    steps = []
     for behind in range(1, len(hall)):
         # All counters ahead of this one are settled by now; then one pass from
         # it to the first settles it too, so nothing is to be done twice.
         for counter in reversed(range(behind)):
             _, most_back = most_moves(told[counter], told[counter + 1])
-            told = carried(told, counter, -most_back)
-    return told
+            if most_back > 0:
+                told = carried(told, counter, -most_back)
+                steps.append((counter, -most_back))
+    return (told, steps)
+
+
+def to_first(hall):
+    """Tell the hall that comes of all moves back that there are."""
+    check_hall(hall)
+    return settling(hall)[0]
 
 
 def settled(hall):

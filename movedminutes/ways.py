@@ -41,6 +41,13 @@ def check_both(hall, other):
         raise Unlike()
 
 
+def check_like(hall, other):
+    """Refuse what are no two halls of as many customers and counters."""
+    check_both(hall, other)
+    if len(hall) != len(other):
+        raise Unlike()
+
+
 def greatest(hall, first, last_one):
     """Tell the greatest worth of a way from one customer to another."""
     check_ends(hall, first, last_one)

@@ -6,12 +6,19 @@ import random
 import sys
 import unittest
 
-from movedminutes import covers, halls, moves, sums, ways
+from movedminutes import covers, customers as customers_file, halls, moves, roads, rooms, sums, texts, ways
 from movedminutes import towers as towers_file
 from movedminutes.covers import cover, covered, not_led
+from movedminutes.customers import customer_back, customer_move, exchanged_customers, turned_about
+from movedminutes.errors import TooMany
 from movedminutes.halls import held_by, is_hall, last, leavings, waits
 from movedminutes.moves import back, can_move, move, moved
+from movedminutes.roads import all_led, led, many_led, road, with_totals
+from movedminutes.rooms import blocked, is_seen, seen_day
 from movedminutes.sums import exchanged, fewest, in_order, settled, to_first, to_last, totals, with_total
+from movedminutes.texts import (
+    read_day, read_hall, read_road, read_tower, read_way, show_day, show_hall, show_road, show_tower, show_way,
+)
 from movedminutes.towers import hall_of, towers
 from movedminutes.ways import alike, best_way, greatest, parting, spare
 from tests.samples import FIFTEEN_FIGURES, KINDS, hall_of_kind, sample_days, sample_halls
@@ -39,6 +46,23 @@ INTERFACE = {
         "not_led": ["hall", "other"],
     },
     towers_file: {"towers": ["hall"], "hall_of": ["by_customers", "by_counters"]},
+    roads: {
+        "led": ["hall", "other"], "road": ["hall", "other"], "all_led": ["hall"], "many_led": ["hall"],
+        "with_totals": ["hall", "totals_wished"],
+    },
+    customers_file: {
+        "turned_about": ["hall"], "customer_move": ["hall", "customer"], "customer_back": ["hall", "customer"],
+        "exchanged_customers": ["hall", "customer"],
+    },
+    rooms: {
+        "blocked": ["hall", "day", "room"], "is_seen": ["hall", "counter", "day", "room"],
+        "seen_day": ["hall", "counter", "room"],
+    },
+    texts: {
+        "show_hall": ["hall"], "show_day": ["day"], "show_way": ["way"], "show_tower": ["tower"],
+        "show_road": ["road"], "read_hall": ["text"], "read_day": ["text"], "read_way": ["text"],
+        "read_tower": ["text"], "read_road": ["text"],
+    },
 }
 
 
@@ -88,14 +112,58 @@ def asked_of_two(hall):
     ]
 
 
+def asked_of_roads(hall):
+    """Each function of halls that are led with what is handed in to it."""
+    alone = {"hall": hall}
+    asked_ones = [(many_led, alone), (with_totals, {"hall": hall, "totals_wished": totals(hall)[::-1]})]
+    for other in (hall, to_first(hall), to_last(hall), other_hall(hall)):
+        asked_ones += [(led, {"hall": hall, "other": other}), (road, {"hall": hall, "other": other})]
+    if many_led(hall) <= 100:
+        asked_ones.append((all_led, alone))
+    return asked_ones
+
+
+def asked_of_customers(hall):
+    """Each function between customers with what is handed in to it."""
+    if len(hall[0]) == 1:
+        return [(turned_about, {"hall": hall})]
+    both = {"hall": hall, "customer": (len(hall[0]) - 1) // 2}
+    return [
+        (turned_about, {"hall": hall}), (customer_move, both), (customer_back, both), (exchanged_customers, both),
+    ]
+
+
+def asked_of_texts(hall):
+    """Each function of texts with what is handed in to it."""
+    told_road = road(hall, to_last(hall))
+    way = best_way(hall, 0, len(hall[0]) - 1)
+    shown = [(show_hall, {"hall": hall}), (show_way, {"way": way}), (show_road, {"road": told_road})]
+    shown += [(show_day, {"day": last(hall, [0] * len(hall[0]))}), (show_tower, {"tower": towers(hall)[0]})]
+    readers = [read_hall, read_way, read_road, read_day, read_tower]
+    return shown + [(read, {"text": show(**told)}) for read, (show, told) in zip(readers, shown)]
+
+
+def asked_of_rooms(hall, day):
+    """Each function of counters with few rooms with what is handed in to it."""
+    found = [(blocked, {"hall": hall, "day": day, "room": 0}), (blocked, {"hall": hall, "day": day, "room": 2})]
+    for counter in range(len(hall) - 1):
+        if can_move(hall, counter)[0] > 0:
+            found.append((is_seen, {"hall": hall, "counter": counter, "day": day, "room": 1}))
+            found.append((seen_day, {"hall": hall, "counter": counter, "room": 0}))
+            break
+    return found
+
+
 def asked_without_a_day(hall):
     between = asked_between(hall) if len(hall) > 1 else []
-    return asked_of_two(hall) + asked_of_a_hall(hall) + between
+    later = asked_of_roads(hall) + asked_of_customers(hall) + asked_of_texts(hall)
+    return asked_of_two(hall) + asked_of_a_hall(hall) + between + later
 
 
 def asked_on_a_day(hall, day):
     both = {"hall": hall, "day": day}
-    return [(leavings, both), (last, both), (waits, both), (held_by, {**both, "customer": len(hall[0]) - 1})]
+    told = [(leavings, both), (last, both), (waits, both), (held_by, {**both, "customer": len(hall[0]) - 1})]
+    return told + asked_of_rooms(hall, day)
 
 
 def asked(hall, day):
@@ -198,6 +266,41 @@ class TestHandedInAndTold(unittest.TestCase):
             for counter, customer in fewest(hall)[1]:
                 self.assertGreaterEqual(spare(hall, counter, customer), 0)
 
+    def test_what_is_told_of_roads_and_rooms_may_be_handed_in(self):
+        for hall in sample_halls():
+            self.assertEqual(read_hall(show_hall(turned_about(turned_about(hall)))), hall)
+            self.assertEqual(read_road(show_road(road(hall, to_last(hall)))), road(hall, to_last(hall)))
+            day = [0] * len(hall[0])
+            for _ in range(3):
+                for left in blocked(hall, day, 1):
+                    self.assertEqual(read_day(show_day(left)), left)
+                day = blocked(hall, day, 0)[-1]
+            told = with_totals(hall, totals(hall)[::-1])
+            self.assertIs(led(told, hall), True)
+            self.assertEqual(blocked(told, day, many_led(hall))[-1], last(hall, day))
+            for told in all_led(hall)[:9] if many_led(hall) <= 100 else []:
+                self.assertEqual(last(told, day), last(hall, day))
+
+    def test_of_an_empty_road_each_is_a_new_one(self):
+        one, other = read_road(""), road(((1, 2),), ((1, 2),))
+        one.append((0, 1))
+        other.append((0, 1))
+        self.assertEqual(read_road(""), [])
+        self.assertEqual(road(((1, 2),), ((1, 2),)), [])
+
+    def test_roads_and_rooms_of_more_than_fifteen_figures(self):
+        many = 10 ** 40
+        hall = ((many, 0), (many + 1, 2))
+        self.assertEqual(road(hall, to_first(hall)), [(0, -many - 3)])
+        self.assertEqual(many_led(hall), 2 * many + 4)
+        self.assertEqual(with_totals(hall, (0, 2 * many + 3)), ((0, 0), (2 * many + 1, 2)))
+        self.assertEqual(blocked(hall, [many, many], 0)[-1], [3 * many + 1, 3 * many + 3])
+        self.assertEqual(customer_move(hall, 0), ((many, 0), (many, 3)))
+        self.assertIsNone(seen_day(hall, 0, many))
+        with self.assertRaises(TooMany) as caught:
+            all_led(hall)
+        self.assertEqual(caught.exception.many, 2 * many + 4)
+
     def test_moves_of_more_than_fifteen_figures(self):
         many = 10 ** 40
         hall = ((many, 0), (many + 1, 2))
@@ -227,6 +330,10 @@ class TestHandedInAndTold(unittest.TestCase):
 
 
 class TestSteps(unittest.TestCase):
+    # Where it hangs on the minutes whether there is one, on which day, and how
+    # long a text is: these few steps are bounded only.
+    OTHERWISE = [moved, with_total, seen_day, read_hall, read_day, read_tower, read_road]
+
     def steps(self, function, told):
         """Count the lines of the program that an answer goes through."""
         counted = [0]
@@ -241,13 +348,17 @@ class TestSteps(unittest.TestCase):
         sys.settrace(trace)
         try:
             function(**told)
+        except TooMany:
+            pass
         finally:
             sys.settrace(before)
         return counted[0]
 
     def hold(self, function, many):
-        # So many ways of eight customers through eight counters take the most.
-        self.assertLess(many, 200000 if function is cover else 20000)
+        # So many ways of eight customers through eight counters take the most,
+        # and next to them the days on which a move may be seen, and a hall of two towers.
+        most = {cover: 200000, seen_day: 50000, with_totals: 50000}
+        self.assertLess(many, most.get(function, 20000), function)
 
     def test_they_do_not_grow_with_the_minutes(self):
         hall = tuple(tuple((3 * i + 5 * k) % 7 for k in range(8)) for i in range(8))
@@ -258,8 +369,8 @@ class TestSteps(unittest.TestCase):
         for (function, told), (_, more) in zip(asked(hall, day), asked(greater, late)):
             many = self.steps(function, told)
             self.hold(function, many)
-            if function is not moved and function is not with_total:
-                self.assertEqual(self.steps(function, more), many)
+            if function not in self.OTHERWISE:
+                self.assertEqual(self.steps(function, more), many, function)
 
     def test_they_are_few_whatever_the_minutes(self):
         chance = random.Random(4)
@@ -267,6 +378,14 @@ class TestSteps(unittest.TestCase):
         for hall in halls_told + [((0,) * 8,) * 8, ((FIFTEEN_FIGURES,) * 8,) * 8]:
             for function, told in asked(hall, [0] * 8):
                 self.hold(function, self.steps(function, told))
+
+    def test_too_many_halls_are_refused_at_once(self):
+        chance = random.Random(5)
+        halls_told = [hall_of_kind(chance, 8, 8, kind) for kind in KINDS * 3]
+        for hall in halls_told + [((0,) * 7 + (FIFTEEN_FIGURES,),) + ((0,) * 8,) * 7, ((1000,), (0,))]:
+            with self.assertRaises(TooMany):
+                all_led(hall)
+            self.hold(all_led, self.steps(all_led, {"hall": hall}))
 
 
 if __name__ == "__main__":

@@ -1,15 +1,20 @@
 """What holds of the whole ([4]): moves are unseen, and what stays the same whatever is moved."""
 
+import itertools
 import random
 import unittest
 
 from movedminutes.covers import not_led
+from movedminutes.customers import customer_back, customer_move, exchanged_customers, turned_about
 from movedminutes.halls import last
 from movedminutes.moves import can_move, moved
+from movedminutes.roads import all_led, led, many_led, road, with_totals
+from movedminutes.rooms import blocked
 from movedminutes.sums import exchanged, in_order, to_first, to_last, totals, with_total
+from movedminutes.texts import read_hall, read_road, read_tower, show_hall, show_road, show_tower
 from movedminutes.towers import hall_of, towers
 from movedminutes.ways import alike, parting
-from tests.one_by_one import led_between
+from tests.one_by_one import led_between, led_by_moves
 from tests.samples import days_up_to, sample_days, sample_halls, small_halls
 
 
@@ -59,6 +64,8 @@ class TestTheWhole(unittest.TestCase):
                 self.assertIsNone(parting(hall, told))
                 self.assertIsNone(not_led(hall, told))
                 self.assertEqual(to_first(told), to_first(hall))
+                self.assertIs(led(hall, told), True)
+                self.assertEqual(many_led(told), many_led(hall))
                 told_by_customers, told_by_counters = towers(told)
                 self.assertEqual(told_by_customers, by_customers)
                 self.assertEqual(hall_of(by_customers, told_by_counters), told)
@@ -74,6 +81,78 @@ class TestTheWhole(unittest.TestCase):
                 for other in halls:
                     self.assertIs(leaves[hall] == leaves[other], other in led)
                     self.assertIs(not_led(hall, other) is None, other in led)
+
+    def test_moves_go_back_along_the_road(self):
+        chance = random.Random(4)
+        for hall in sample_halls():
+            for told in led_halls(hall, chance):
+                here = told
+                for counter, many in road(hall, told)[::-1]:
+                    here = moved(here, counter, -many)
+                self.assertEqual(here, hall)
+
+    def test_of_two_counters_there_is_one_for_each_total(self):
+        for hall in small_halls(2, 2, 3) + small_halls(2, 3, 1):
+            told = all_led(hall)
+            had = sorted(totals(other)[0] for other in told)
+            self.assertEqual(had, list(range(had[0], had[-1] + 1)))
+            self.assertEqual(len(had), sum(can_move(hall, 0)) + 1)
+            for total in range(sum(map(sum, hall)) + 2):
+                wished = (total, sum(map(sum, hall)) - total)
+                other = with_total(hall, 0, total)
+                self.assertIs(other is not None, total in had)
+                if wished[1] >= 0:
+                    self.assertEqual(with_totals(hall, wished), other)
+
+    def test_of_all_that_are_led_the_towers_by_customers_are_one(self):
+        for hall in small_halls(3, 2, 1) + small_halls(2, 3, 1) + small_halls(3, 3, 1)[::9]:
+            told = all_led(hall)
+            self.assertEqual(told, sorted(led_by_moves(hall)))
+            self.assertEqual([towers(other)[0] for other in told], [towers(hall)[0]] * len(told))
+            self.assertEqual(len({tuple(towers(other)[1]) for other in told}), len(told))
+
+    def test_halls_of_so_many_minutes_are_counted_by_a_product(self):
+        for counters, customers, minutes in ((2, 2, 4), (3, 2, 4), (2, 3, 4), (3, 3, 3), (4, 2, 3), (1, 3, 4)):
+            halls = [hall for hall in small_halls(counters, customers, minutes) if sum(map(sum, hall)) == minutes]
+            by_top = {}
+            for hall in halls:
+                by_top.setdefault(tuple(towers(hall)[0][-1]), []).append(hall)
+            for same_top in by_top.values():
+                for hall in same_top:
+                    self.assertEqual(many_led(hall) * many_led(turned_about(hall)), len(same_top))
+
+    def test_two_halls_by_their_covers(self):
+        for hall, other in itertools.product(small_halls(3, 3, 1)[::7], repeat=2):
+            self.assertIs(led(hall, other), not_led(hall, other) is None)
+
+    def test_minutes_between_customers_go_past_those_between_counters(self):
+        chance = random.Random(5)
+        for hall in sample_halls():
+            if len(hall[0]) > 1:
+                customer = chance.randrange(len(hall[0]) - 1)
+                for step in (customer_move, customer_back, exchanged_customers):
+                    told = step(hall, customer)
+                    if told is not None:
+                        self.assertEqual(to_first(told), step(to_first(hall), customer))
+                        self.assertEqual(to_last(told), step(to_last(hall), customer))
+                        self.assertEqual(totals(told), totals(hall))
+
+    def test_with_few_rooms_it_may_be_told(self):
+        hall, other = ((0, 0, 1), (0, 0, 0), (1, 0, 0)), ((0, 0, 0), (0, 0, 1), (1, 0, 0))
+        self.assertIs(led(hall, other), True)
+        self.assertNotEqual(blocked(hall, [0, 0, 0], 0)[-1], blocked(other, [0, 0, 0], 0)[-1])
+        for day in days_up_to(3, 4):
+            self.assertEqual(blocked(hall, day, 2)[-1], blocked(other, day, 2)[-1])
+
+    def test_all_is_written_and_read_back(self):
+        chance = random.Random(6)
+        for hall in sample_halls():
+            self.assertEqual(hall_of(*[read_tower(show_tower(tower)) for tower in towers(hall)]), hall)
+            for told in led_halls(hall, chance):
+                here = read_hall(show_hall(hall))
+                for counter, many in read_road(show_road(road(hall, told))):
+                    here = moved(here, counter, many)
+                self.assertEqual(here, told)
 
 
 if __name__ == "__main__":
